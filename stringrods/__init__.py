@@ -1,0 +1,1 @@
+"""Stringrods: straight rods in space, told by six numbers and one product."""

@@ -1,0 +1,110 @@
+"""Values that several tests share."""
+
+from itertools import permutations, product
+from math import gcd
+
+
+class Grumpy:
+    """A value that cannot be compared, measured, iterated over or tested."""
+
+    def __eq__(self, other):
+        raise RuntimeError("compared")
+
+    __hash__ = None
+
+    def __len__(self):
+        raise RuntimeError("measured")
+
+    def __iter__(self):
+        raise RuntimeError("iterated over")
+
+    def __bool__(self):
+        raise RuntimeError("tested")
+
+    def __getitem__(self, at):
+        raise RuntimeError("indexed")
+
+
+def nested(depth):
+    """A tuple nested so many deep."""
+    value = ()
+    for _ in range(depth - 1):
+        value = (value,)
+    return value
+
+
+HUGE = 10 ** 399 + 7
+
+# None of these is a point, a plane or a rod, or any other row of numbers.
+ANYTHING = [
+    None, True, False, 0, 1, -3, HUGE, "", "1000", "100000", b"", b"\x01\x00\x00\x00",
+    [], {}, {1: 0, 2: 0, 3: 0, 4: 0}, set(), {1, 2, 3, 4}, frozenset(), range(4), object(), Grumpy(),
+    len, int, ValueError, ValueError("1"), (), (1,), (1, 0), (1, 0, 0), nested(14), [nested(13)],
+    ((1, 0, 0, 0),), ([1, 0, 0, 0],), ("1", "0", "0", "0"), ("1", "0", "0", "0", "0", "0"),
+]
+
+# None of these is a point or a plane.
+NO_FOURS = ANYTHING + [
+    [1, 0, 0, 0], [1, 2, 3, 4], {0: 1, 1: 0, 2: 0, 3: 0},
+    (1, 0, 0, 0, 0), (0, 1, 0, 0, 0), (1, 0, 0, 0, 0, 0),
+    (0, 0, 0, 0), (2, 0, 0, 0), (0, 0, 0, 2), (2, 4, 6, 8), (3, 0, -6, 9), (0, 5, 10, 0),
+    (-1, 0, 0, 0), (-1, 2, 3, 4), (0, -1, 0, 0), (0, 0, -1, 1), (0, 0, 0, -1), (-2, 3, 0, 0),
+    (True, 0, 0, 0), (1, False, 0, 0), (1, 0, 0, False), (0, 0, 0, True), (False, 1, 0, 0),
+    (1, 0, 0, None), (None, 0, 0, 1), (1, 0, 0, "0"), (1, 0, (0,), 0), (1, 0, [], 0), (1, 2, Grumpy(), 3),
+    (Grumpy(), 0, 0, 1), (HUGE, 0, 0, HUGE), (-HUGE, 1, 0, 0), (1, 0, 0, nested(13)),
+    ((1, 0, 0, 0), 0, 0, 0),
+]
+
+# None of these is a rod.
+NO_RODS = ANYTHING + [
+    [1, 0, 0, 0, 0, 0], [0, 1, 0, -1, 0, 0], {at: 1 for at in range(6)},
+    (1, 0, 0, 0), (1, 0, 0, 0, 0), (1, 0, 0, 0, 0, 0, 0), (0, 0, 0, 0, 0), (0, 0, 1),
+    (0, 0, 0, 0, 0, 0), (2, 0, 0, 0, 0, 0), (0, 2, 0, -2, 0, 0), (0, 0, 0, 0, 0, 2), (0, 0, 0, 3, 6, 0),
+    (-1, 0, 0, 0, 0, 0), (0, -1, 0, 1, 0, 0), (0, 0, 0, -1, 0, 0), (0, 0, 0, 0, 0, -1), (-1, 0, 0, 0, 2, 3),
+    (1, 0, 0, 1, 0, 0), (0, 0, 1, 0, 0, 1), (1, 2, 3, 1, 1, 1), (1, 1, 1, 1, 1, -1), (0, 1, 0, 0, -1, 0),
+    (HUGE, 1, 0, 1, HUGE, 0),
+    (True, 0, 0, 0, 0, 0), (1, False, 0, 0, 0, 0), (1, 0, 0, 0, 0, False), (0, 0, 0, 0, 0, True),
+    (1, 0, 0, None, 0, 0), (1, 0, 0, 0, 0, "0"), ("1", 0, 0, 0, 0, 0), (1, 0, 0, (), 0, 0), (1, 0, [0], 0, 0, 0),
+    (1, 0, 0, 0, 0, Grumpy()), (Grumpy(), 0, 0, 0, 0, 1), (HUGE, 0, 0, 0, HUGE, 0),
+    (1, 0, 0, 0, 0, nested(13)), ((1, 0, 0), (0, 0, 0)), ((1, 0, 0, 0, 0, 0), 0, 0, 0, 0, 0),
+]
+
+
+def is_reduced(row):
+    """Say by [6], in the test's own words, whether whole numbers are reduced."""
+    divisor = gcd(*row)
+    front = [number for number in row if number != 0]
+    return divisor == 1 and front[0] > 0
+
+
+def rows_between(low, high, length):
+    """All reduced rows of numbers from low up to high."""
+    rows = product(range(low, high + 1), repeat=length)
+    return [row for row in rows if any(row) and is_reduced(row)]
+
+
+def determinant(rows):
+    """The determinant, term by term."""
+    total = 0
+    for order in permutations(range(len(rows))):
+        term = 1
+        for low in range(len(order)):
+            for high in range(low + 1, len(order)):
+                if order[low] > order[high]:
+                    term = -term
+        for row, at in zip(rows, order):
+            term *= row[at]
+        total += term
+    return total
+
+
+def in_line(first, second, third):
+    """Whether three rows of four hang together, by their determinants of three."""
+    picked = [(0, 1, 2), (0, 1, 3), (0, 2, 3), (1, 2, 3)]
+    rows = (first, second, third)
+    return all(determinant([[row[at] for at in pick] for row in rows]) == 0 for pick in picked)
+
+
+def crossed_sum(rod, other):
+    """The product of [8], number by number."""
+    return sum(rod[at] * other[(at + 3) % 6] for at in range(6))

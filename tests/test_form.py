@@ -1,0 +1,140 @@
+"""The files of the package keep to those rules of the subset that can be told at a glance."""
+
+import ast
+import os
+import unittest
+
+FOLDER = os.path.join(os.path.dirname(os.path.dirname(os.path.abspath(__file__))), "stringrods")
+LIBRARY = {"math": {"gcd", "lcm", "isqrt", "comb", "perm", "factorial"}}
+BUILTINS = {
+    "len", "range", "enumerate", "zip", "min", "max", "sum", "abs", "sorted", "reversed", "int", "str", "bool",
+    "list", "tuple", "dict", "set", "isinstance", "ord", "repr", "any", "all", "divmod", "ValueError", "TypeError",
+    "KeyError",
+}
+METHODS = {
+    "append", "clear", "copy", "count", "endswith", "extend", "find", "get", "index", "insert", "isalnum",
+    "isalpha", "isdigit", "islower", "isspace", "isupper", "items", "join", "keys", "ljust", "lower", "lstrip",
+    "partition", "pop", "remove", "replace", "reverse", "rfind", "rjust", "rpartition", "rsplit", "rstrip",
+    "setdefault", "split", "splitlines", "startswith", "strip", "update", "upper", "values", "zfill", "bit_length",
+}
+BARRED = (
+    ast.AsyncFor, ast.AsyncFunctionDef, ast.AsyncWith, ast.Await, ast.Global, ast.Import, ast.Div, ast.MatMult,
+    ast.GeneratorExp,
+)
+
+
+def file_names():
+    return sorted(name for name in os.listdir(FOLDER) if name != "__pycache__")
+
+
+def source(name):
+    with open(os.path.join(FOLDER, name), encoding="utf-8") as file:
+        return file.read()
+
+
+def own_names(tree):
+    """The names that a file binds at its top."""
+    names = set()
+    for node in tree.body:
+        if isinstance(node, (ast.FunctionDef, ast.ClassDef)):
+            names.add(node.name)
+        elif isinstance(node, ast.ImportFrom):
+            names.update(alias.name for alias in node.names)
+        elif isinstance(node, ast.Assign):
+            names.update(target.id for target in node.targets)
+    return names
+
+
+def own_methods():
+    """The names of all methods that classes of the package define."""
+    trees = [ast.parse(source(name)) for name in file_names()]
+    classes = [node for tree in trees for node in tree.body if isinstance(node, ast.ClassDef)]
+    return {part.name for node in classes for part in node.body if isinstance(part, ast.FunctionDef)}
+
+
+class Files(unittest.TestCase):
+    def test_the_folder_has_only_its_files(self):
+        self.assertIn("__init__.py", file_names())
+        for name in file_names():
+            self.assertRegex(name, r"^(__init__|[a-z][a-z0-9_]*)\.py$")
+
+    def test_sizes_and_signs(self):
+        for name in file_names():
+            lines = source(name).split("\n")
+            self.assertLessEqual(len(lines), 399, name)
+            for line in lines:
+                self.assertLessEqual(len(line), 120, name)
+                self.assertTrue(all(" " <= sign <= "~" for sign in line), name)
+
+    def test_short_functions(self):
+        for name in file_names():
+            for node in ast.walk(ast.parse(source(name))):
+                if isinstance(node, ast.FunctionDef):
+                    self.assertLessEqual(node.end_lineno - node.lineno + 1, 40, node.name)
+
+    def test_what_stands_at_the_top(self):
+        for name in file_names():
+            for node in ast.parse(source(name)).body:
+                plain = isinstance(node, (ast.FunctionDef, ast.ClassDef, ast.ImportFrom, ast.Assign))
+                text = isinstance(node, ast.Expr) and isinstance(node.value, ast.Constant)
+                self.assertTrue(plain or text, (name, node.lineno))
+
+    def test_nothing_barred(self):
+        for name in file_names():
+            for node in ast.walk(ast.parse(source(name))):
+                self.assertNotIsInstance(node, BARRED, name)
+                if isinstance(node, ast.Constant):
+                    self.assertNotIsInstance(node.value, (float, complex), name)
+                    self.assertFalse(isinstance(node.value, str) and "%" in node.value, name)
+
+    def test_imports(self):
+        for name in file_names():
+            for node in ast.walk(ast.parse(source(name))):
+                if not isinstance(node, ast.ImportFrom):
+                    continue
+                self.assertEqual(node.level, 0)
+                for alias in node.names:
+                    self.assertIsNone(alias.asname)
+                    if node.module in LIBRARY:
+                        self.assertIn(alias.name, LIBRARY[node.module])
+                    else:
+                        self.check_import(node.module, alias.name)
+
+    def check_import(self, module, name):
+        folder, _, file = module.partition(".")
+        self.assertEqual(folder, "stringrods")
+        defined = [
+            node.name for node in ast.parse(source(file + ".py")).body
+            if isinstance(node, (ast.FunctionDef, ast.ClassDef))
+        ]
+        constants = [
+            target.id for node in ast.parse(source(file + ".py")).body if isinstance(node, ast.Assign)
+            for target in node.targets
+        ]
+        self.assertIn(name, defined + constants)
+
+    def test_calls(self):
+        methods = METHODS | own_methods()
+        for name in file_names():
+            tree = ast.parse(source(name))
+            known = own_names(tree) | BUILTINS
+            for node in ast.walk(tree):
+                if isinstance(node, ast.Call) and isinstance(node.func, ast.Name):
+                    self.assertIn(node.func.id, known, (name, node.lineno))
+                elif isinstance(node, ast.Call):
+                    self.assertIn(node.func.attr, methods, (name, node.lineno))
+
+    def test_no_name_means_two_things(self):
+        for name in file_names():
+            tree = ast.parse(source(name))
+            taken = own_names(tree) | BUILTINS
+            for node in ast.walk(tree):
+                if isinstance(node, ast.Name) and isinstance(node.ctx, ast.Store):
+                    if node.col_offset > 0:
+                        self.assertNotIn(node.id, taken, (name, node.lineno))
+                elif isinstance(node, ast.arg):
+                    self.assertNotIn(node.arg, taken, (name, node.lineno))
+
+
+if __name__ == "__main__":
+    unittest.main()
