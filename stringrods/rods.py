@@ -3,9 +3,14 @@
 from stringrods.errors import Apart, InvalidRod, Meeting, NotJustOne, Same
 from stringrods.rows import cross, dot, is_reduced_row, minus, plus, reduced, times
 from stringrods.spaces import check_plane, check_point
+from stringrods.stairs import room_of
 
 # Four points of no one plane; read as planes, four planes without a common point.
 CORNERS = ((1, 0, 0, 0), (0, 1, 0, 0), (0, 0, 1, 0), (0, 0, 0, 1))
+UNIT_RODS = (
+    (1, 0, 0, 0, 0, 0), (0, 1, 0, 0, 0, 0), (0, 0, 1, 0, 0, 0),
+    (0, 0, 0, 1, 0, 0), (0, 0, 0, 0, 1, 0), (0, 0, 0, 0, 0, 1),
+)
 
 
 def is_rod(value):
@@ -25,9 +30,33 @@ def check_rods(rod, other):
     check_rod(other)
 
 
+def check_three(rod, other, third):
+    """Raise InvalidRod for the first one of three that is no rod."""
+    check_rods(rod, other)
+    check_rod(third)
+
+
+def swapped(row):
+    """Return the row of six whose sum of products with another one is the product of both."""
+    return row[3:] + row[:3]
+
+
 def row_product(row, other):
     """Return the product of two rows of six, reduced or not."""
-    return dot(row[:3], other[3:]) + dot(row[3:], other[:3])
+    return dot(row, swapped(other))
+
+
+def three_products(rod, other, third):
+    """Return the products of the last two, of the outer two and of the first two; raise Meeting if two meet."""
+    parts = (row_product(other, third), row_product(rod, third), row_product(rod, other))
+    if 0 in parts:
+        raise Meeting()
+    return parts
+
+
+def rows_met_by(rods):
+    """Return the base in stairs of all rows of six that have the product 0 with each of these."""
+    return room_of([swapped(rod) for rod in rods])
 
 
 def plane_row(rod, point):
@@ -42,6 +71,20 @@ def point_row(rod, plane):
     direction, moment = rod[:3], rod[3:]
     place = minus(cross(plane[1:], moment), times(plane[0], direction))
     return (dot(plane[1:], direction),) + place
+
+
+def points_of(rod):
+    """Return the two points in stairs whose sums of multiples are the points of the rod."""
+    # The points of the rod are those that all planes through it have in common.
+    return room_of([plane_row(rod, corner) for corner in CORNERS])
+
+
+def rows_through(rows, point):
+    """Return the base in stairs of all rods through the point that have the product 0 with each of these rows."""
+    # A rod goes through a point exactly if their plane is nought.
+    planes = [plane_row(unit, point) for unit in UNIT_RODS]
+    through = [tuple([plane[at] for plane in planes]) for at in range(4)]
+    return room_of([swapped(row) for row in rows] + through)
 
 
 def product(rod, other):
@@ -118,13 +161,6 @@ def meeting_plane(rod, other):
 
 def hand(rod, other, third):
     """Return the hand, 1 or -1, of three rods apart from one another."""
-    check_rods(rod, other)
-    check_rod(third)
-    sign = 1
-    for left, right in ((rod, other), (rod, third), (other, third)):
-        part = row_product(left, right)
-        if part == 0:
-            raise Meeting()
-        if part < 0:
-            sign = -sign
-    return sign
+    check_three(rod, other, third)
+    below = [part for part in three_products(rod, other, third) if part < 0]
+    return -1 if len(below) in (1, 3) else 1

@@ -69,3 +69,11 @@ def plus(row, other):
 def minus(row, other):
     """Return the first row less the other one, both of one length."""
     return tuple([left - right for left, right in zip(row, other)])
+
+
+def combined(factors, rows):
+    """Return the sum of the rows, each multiplied by its factor."""
+    total = times(factors[0], rows[0])
+    for factor, row in zip(factors[1:], rows[1:]):
+        total = plus(total, times(factor, row))
+    return total

@@ -108,3 +108,44 @@ def in_line(first, second, third):
 def crossed_sum(rod, other):
     """The product of [8], number by number."""
     return sum(rod[at] * other[(at + 3) % 6] for at in range(6))
+
+
+# None of these is a whole number.
+NO_WHOLES = [value for value in ANYTHING if not (value.__class__ is int)] + ["0", "7", (7,), [7], {7: 7}, {7}]
+
+# None of these is a fraction from 0 on.
+NO_FRACTIONS = ANYTHING + [
+    [1, 1], [0, 1], {1: 1, 2: 1}, "1/2", (0, 2), (0, -1), (0, 0), (2, 4), (6, 3), (1, 0), (-1, 1), (1, -1), (-1, -1),
+    (-1, 2), (1, 1, 1), (3,), (True, 1), (1, True), (False, 1), (0, True), (True, True), (None, 1), (1, None),
+    ("1", 1), (1, "1"), ((1, 1), 1), (1, [1]), (Grumpy(), 1), (1, Grumpy()), (HUGE, HUGE), (-HUGE, 2),
+    (2 * HUGE, 2), (1, nested(13)),
+]
+
+# None of these is a surface.
+NO_SURFACES = NO_RODS + NO_FOURS + [
+    [1, 0, 0, 0, 1, 0, 0, 1, 0, -1], (0,) * 10, (1,) * 9, (1,) * 11, (2,) + (0,) * 9, (-1,) + (0,) * 9,
+    (0,) * 9 + (-1,), (0,) * 9 + (2,), (2, 0, 0, 0, 2, 0, 0, 2, 0, 4), (True,) + (0,) * 9, (1,) + (False,) * 9,
+    (1,) + (None,) * 9, ("1",) + (0,) * 9, (0,) * 9 + (Grumpy(),), (1, 0, 0, 0, 0, 0, 0, 0, 0, nested(13)),
+    ((1, 0, 0, 0), (0, 1, 0, 0), (0, 0, 1, 0), (0, 0, 0, 1)), (0, -1, 0, 0, 0, 0, 0, 0, 0, 1), (HUGE,) * 10,
+]
+
+SOME_RODS = (
+    (1, 0, 0, 0, 0, 0), (0, 1, 0, 0, 0, 0), (0, 0, 1, 0, 0, 0), (0, 0, 0, 1, 0, 0), (0, 1, 0, -1, 0, 0),
+    (0, 0, 1, 1, -1, 0), (1, 2, 3, 3, 0, -1), (1, 0, 0, 0, 0, -2), (0, 0, 0, 2, -3, 5), (1, 0, 0, 0, 0, 0),
+)
+
+
+def wrong_lots():
+    """Pairs of what is no lot and the index that is told."""
+    no_tuples = [value for value in NO_RODS if not isinstance(value, tuple)] + [list(SOME_RODS[:3]), [SOME_RODS[0]]]
+    told = [(value, None) for value in no_tuples] + [((), 0)]
+    told += [((value,), 0) for value in NO_RODS]
+    told += [(SOME_RODS[:at] + (value,) + SOME_RODS[at:7], at) for at in range(8) for value in NO_RODS[at::8]]
+    told += [(SOME_RODS[:at] + ([1, 0, 0, 0, 0, 0],) + (None,) * 3, at) for at in range(8)]
+    told += [(SOME_RODS[:9], 8), (SOME_RODS, 8), (SOME_RODS[:1] * 60, 8), (SOME_RODS[:8] + (None,), 8)]
+    told += [(SOME_RODS[:9] + (None,), 8), ((None,) + SOME_RODS[:9], 0), (SOME_RODS[0], 0), ((1, 0, 0, 0), 0)]
+    told += [(SOME_RODS[:7] + ((2, 0, 0, 0, 0, 0), None), 7), ((SOME_RODS[:2],), 0)]
+    return told
+
+
+WRONG_LOTS = wrong_lots()

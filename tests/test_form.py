@@ -113,6 +113,42 @@ class Files(unittest.TestCase):
         ]
         self.assertIn(name, defined + constants)
 
+    def test_each_import_is_used(self):
+        for name in file_names():
+            tree = ast.parse(source(name))
+            used = {node.id for node in ast.walk(tree) if isinstance(node, ast.Name)}
+            for node in ast.walk(tree):
+                if isinstance(node, ast.ImportFrom):
+                    self.assertLessEqual({alias.name for alias in node.names}, used, name)
+
+    def test_no_two_files_import_from_each_other(self):
+        folder = "stringrods."
+        needs = {}
+        for name in file_names():
+            parts = [node.module for node in ast.walk(ast.parse(source(name))) if isinstance(node, ast.ImportFrom)]
+            needs[name] = {part[len(folder):] + ".py" for part in parts if part.startswith(folder)}
+        while needs:
+            free = [name for name in needs if not needs[name] & set(needs)]
+            self.assertNotEqual(free, [])
+            needs = {name: needs[name] for name in needs if name not in free}
+
+    def test_exponents_are_literal(self):
+        for name in file_names():
+            for node in ast.walk(ast.parse(source(name))):
+                if isinstance(node, ast.BinOp) and isinstance(node.op, ast.Pow):
+                    self.assertIsInstance(node.right, ast.Constant, name)
+
+    def test_what_is_iterated_at_once(self):
+        once = {"zip", "enumerate", "reversed", "range"}
+        for name in file_names():
+            tree = ast.parse(source(name))
+            heads = [node.iter for node in ast.walk(tree) if isinstance(node, (ast.For, ast.comprehension))]
+            calls = [node for node in ast.walk(tree) if isinstance(node, ast.Call) and isinstance(node.func, ast.Name)]
+            heads += [node.args[0] for node in calls if node.func.id in ("list", "tuple", "sorted") and node.args]
+            for node in calls:
+                if node.func.id in once:
+                    self.assertTrue(any(node is head for head in heads), (name, node.lineno))
+
     def test_calls(self):
         methods = METHODS | own_methods()
         for name in file_names():
