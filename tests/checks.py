@@ -1,10 +1,11 @@
 """Checks of errors that several tests share."""
 
 from samples import (
-    NO_FOURS, NO_FRACTIONS, NO_RODS, NO_SURFACES, NO_WHOLES, WRONG_LOTS,
+    NO_FOURS, NO_FRACTIONS, NO_RODS, NO_SCREWS, NO_SURFACES, NO_TABLES, NO_WHOLES, WRONG_LOTS,
 )
 from stringrods.errors import (
-    InvalidFraction, InvalidLot, InvalidNumber, InvalidPlane, InvalidPoint, InvalidRod, InvalidSurface, RodError,
+    InvalidFraction, InvalidLot, InvalidNumber, InvalidPlane, InvalidPoint, InvalidRod, InvalidScrew, InvalidSurface,
+    InvalidTable, RodError,
 )
 
 
@@ -17,6 +18,8 @@ def kept(values):
 ROD = (InvalidRod, "given", kept(NO_RODS))
 POINT = (InvalidPoint, "given", kept(NO_FOURS))
 PLANE = (InvalidPlane, "given", kept(NO_FOURS))
+SCREW = (InvalidScrew, "given", kept(NO_SCREWS))
+TABLE = (InvalidTable, "given", kept(NO_TABLES))
 SURFACE = (InvalidSurface, "given", kept(NO_SURFACES))
 FRACTION = (InvalidFraction, "given", kept(NO_FRACTIONS))
 NUMBER = (InvalidNumber, "given", kept(NO_WHOLES))

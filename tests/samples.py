@@ -149,3 +149,42 @@ def wrong_lots():
 
 
 WRONG_LOTS = wrong_lots()
+
+
+def is_plain_row(value, length):
+    """Say in the test's own words whether a value is a reduced row of whole numbers."""
+    if value.__class__ is not tuple or len(value) != length or {number.__class__ for number in value} != {int}:
+        return False
+    return any(value) and is_reduced(value)
+
+
+# None of these is a screw.
+NO_SCREWS = [value for value in NO_RODS if not is_plain_row(value, 6)] + [
+    (0, 0, 2, 0, 0, 2), (0, 0, -1, 0, 0, 1), [0, 0, 1, 0, 0, 1], (0, 0, 1, 0, 0, True), (0, 0, 1, 0, 0, 1, 0),
+    (3, 0, 0, 6, 0, 0), (-1, 0, 0, 1, 0, 0), (HUGE, 0, 0, HUGE, 0, 0),
+]
+
+PLAIN = ((1, 0, 0, 0), (0, 1, 0, 0), (0, 0, 1, 0), (0, 0, 0, 1))
+
+
+def plain_but(down, across, value):
+    """The plain table with another value at a place."""
+    rows = [list(row) for row in PLAIN]
+    rows[down][across] = value
+    return tuple(tuple(row) for row in rows)
+
+
+# None of these is a table.
+NO_TABLES = NO_RODS + NO_FOURS + [
+    list(PLAIN), tuple(list(row) for row in PLAIN), PLAIN[:3] + ([0, 0, 0, 1],), PLAIN[:3], PLAIN + ((0, 0, 0, 0),),
+    PLAIN[:3] + ((0, 0, 0),), PLAIN[:3] + ((0, 0, 0, 1, 0),), PLAIN[:3] + ((0, 0, 0, 0),), PLAIN[:3] + (None,),
+    PLAIN[:3] + ("0001",), (PLAIN[1],) + PLAIN[1:], (PLAIN[0], PLAIN[0], PLAIN[2], PLAIN[3]), PLAIN[:3] + (Grumpy(),),
+    ((0, 0, 0, 0),) * 4, ((1, 1, 1, 1),) * 4, ((1, 2, 3, 4), (5, 6, 7, 8), (9, 10, 11, 12), (13, 14, 15, 16)),
+    tuple(tuple(2 * number for number in row) for row in PLAIN),
+    tuple(tuple(-number for number in row) for row in PLAIN), ((0, -1, 0, 0), (1, 0, 0, 0)) + PLAIN[2:],
+    tuple(tuple(HUGE * number for number in row) for row in PLAIN), (1, 0, 0, 0, 0, 1, 0, 0, 0, 0, 1, 0, 0, 0, 0, 1),
+    tuple({0: row} for row in PLAIN), dict(enumerate(PLAIN)), (PLAIN, PLAIN, PLAIN, PLAIN),
+] + [plain_but(down, across, value) for down, across, value in [
+    (0, 0, True), (0, 1, False), (3, 3, True), (3, 3, 0), (0, 0, 0), (2, 2, None), (1, 2, "0"), (3, 0, (0,)),
+    (1, 1, [1]), (0, 3, Grumpy()), (2, 3, nested(12)), (0, 0, -1),
+]]

@@ -163,7 +163,8 @@ class Count(unittest.TestCase):
         for tail in [(FOUR[0],), (FOUR[1],), (UPRIGHT, ALONG), (FAR_X,), (SMALL[40],), (SMALL[70], SMALL[11])]:
             lot = THREE + tail
             told = (meeters_count(lot), told_meeters(lot))
-            for other in (lot[::-1], lot + (lot[1],), lot + (fourth,), (fourth,) + lot[1:], lot[2:] + lot[:2] + lot[:1]):
+            others = (lot[::-1], lot + (lot[1],), lot + (fourth,), (fourth,) + lot[1:], lot[2:] + lot[:2] + lot[:1])
+            for other in others:
                 self.assertEqual((meeters_count(other), told_meeters(other)), told)
         for lot in (FOUR, TOUCHED, FREE, UNTOLD):
             told = (meeters_count(lot), told_meeters(lot))
@@ -220,7 +221,8 @@ class Told(unittest.TestCase):
         for many in range(1, 6):
             self.assertEqual(meeters_count(large[:many]), expected_count(large[:many]))
         start, end = (1, HUGE, 2, 3), (HUGE, 1, HUGE, 0)
-        lot = tuple(join(start, (1, at, at * at, 5)) for at in range(3)) + (join(end, (1, 2, HUGE, 0)), join(end, (2, 3, 5, 7)))
+        lot = tuple(join(start, (1, at, at * at, 5)) for at in range(3))
+        lot += (join(end, (1, 2, HUGE, 0)), join(end, (2, 3, 5, 7)))
         self.assertEqual(told_meeters(lot), (join(start, end),))
 
 
@@ -235,7 +237,7 @@ class Any(unittest.TestCase):
                 self.assertTrue(all(crossed_sum(meeter, rod) == 0 for rod in lot))
 
     def test_each_endless_one_has_a_told_one(self):
-        for lot in [(rod,) for rod in SMALL] + [(ACROSS, rod) for rod in SMALL] + [(ACROSS, HIGH, rod) for rod in SMALL]:
+        for lot in [front + (rod,) for rod in SMALL for front in ((), (ACROSS,), (ACROSS, HIGH))]:
             meeter = any_meeter(lot)
             self.assertTrue(all(crossed_sum(meeter, rod) == 0 for rod in lot))
 

@@ -285,7 +285,8 @@ class KeepsOff(unittest.TestCase):
         # The tower: from the middle all rods have the distance 1. From (0, 0, 5) the square is 27 / 2
         # for all of them. From (3, 0, 0) it is (11 - 12 c + 9 c c) / 2, c being a cosine: 7 / 2
         # for c = 2 / 3, where no rod is told. From (1, 1, 0): 0 for c = 1.
-        for point, nearest in [(MIDDLE, (1, 1)), ((1, 0, 0, 5), (27, 2)), ((1, 3, 0, 0), (7, 2)), ((1, 1, 0, 0), (0, 1))]:
+        by_hand = [(MIDDLE, (1, 1)), ((1, 0, 0, 5), (27, 2)), ((1, 3, 0, 0), (7, 2)), ((1, 1, 0, 0), (0, 1))]
+        for point, nearest in by_hand:
             self.assertIsNone(self.check_near(TOWER, point, nearest))
             below = Fraction(*nearest) - Fraction(1, 10 ** 30)
             if below > 0:

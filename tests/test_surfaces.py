@@ -34,7 +34,8 @@ EGG, BOWL = (1, 0, 0, 0, -1, 0, 0, -1, 0, -1), (0, 0, 0, 1, -1, 0, 0, -1, 0, 0)
 BOWLS = (1, 0, 0, 0, 1, 0, 0, 1, 0, -1)
 CONE, TUBE = (0, 0, 0, 0, 1, 0, 0, 1, 0, -1), (1, 0, 0, 0, -1, 0, 0, -1, 0, 0)
 NOTHING, POINT_KIND = (1, 0, 0, 0, 1, 0, 0, 1, 0, 1), (0, 0, 0, 0, 1, 0, 0, 1, 0, 1)
-PLANES, ROD_KIND, PLANE_KIND = (0, 0, 0, 0, 1, 0, 0, -2, 0, 0), (0, 0, 0, 0, 1, 0, 0, 2, 0, 0), (1, 2, 0, 0, 4, 0, 0, 0, 0, 0)
+PLANES, ROD_KIND = (0, 0, 0, 0, 1, 0, 0, -2, 0, 0), (0, 0, 0, 0, 1, 0, 0, 2, 0, 0)
+PLANE_KIND = (1, 2, 0, 0, 4, 0, 0, 0, 0, 0)
 KINDS = {
     WAIST: "waist", SADDLE: "saddle", UNTOLD: "waist", EGG: "egg", BOWL: "bowl", BOWLS: "bowls", CONE: "cone",
     TUBE: "tube", NOTHING: "nothing", POINT_KIND: "point", PLANES: "planes", ROD_KIND: "rod", PLANE_KIND: "plane",
@@ -344,7 +345,8 @@ class Touches(unittest.TestCase):
                 if value(surface, point) == 0:
                     plane = tangent(surface, point)
                     self.assertIs(touches(surface, plane), True)
-        for near in [(10 ** 50 + 1, -(10 ** 50), 0, 0), (10 ** 50, -(10 ** 50) - 1, 0, 0), (10 ** 50, -(10 ** 50), 0, 1)]:
+        large = 10 ** 50
+        for near in [(large + 1, -large, 0, 0), (large, -large - 1, 0, 0), (large, -large, 0, 1)]:
             self.assertIs(touches(WAIST, near), False)
             self.assertIs(touches(EGG, near), False)
 
