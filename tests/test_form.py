@@ -1,7 +1,11 @@
 """The files of the package keep to those rules of the subset that can be told at a glance."""
 
 import ast
+import builtins
+import io
 import os
+import re
+import tokenize
 import unittest
 
 FOLDER = os.path.join(os.path.dirname(os.path.dirname(os.path.abspath(__file__))), "stringrods")
@@ -21,6 +25,15 @@ BARRED = (
     ast.AsyncFor, ast.AsyncFunctionDef, ast.AsyncWith, ast.Await, ast.Global, ast.Import, ast.Div, ast.MatMult,
     ast.GeneratorExp,
 )
+BARRED_NAMES = {
+    "register", "mro", "elements", "law", "version_info", "with_traceback", "add_note", "attrgetter", "gc", "importlib",
+    "methodcaller", "os", "sys", "args", "iter", "next", "map",
+}
+BARRED_WORDS = {
+    "type", "typing", "typing_extensions", "enum", "Enum", "IntEnum", "StrEnum", "Flag", "IntFlag", "Generic",
+    "Protocol", "ABC", "ABCMeta", "namedtuple", "NamedTuple", "TypedDict", "TYPE_CHECKING", "abstractmethod",
+    "dataclass", "overload", "contextmanager",
+}
 
 
 def file_names():
@@ -148,6 +161,48 @@ class Files(unittest.TestCase):
             for node in calls:
                 if node.func.id in once:
                     self.assertTrue(any(node is head for head in heads), (name, node.lineno))
+
+    def test_no_name_of_a_builtin_or_barred_word(self):
+        for name in file_names():
+            for node in ast.walk(ast.parse(source(name))):
+                bound = []
+                if isinstance(node, (ast.FunctionDef, ast.ClassDef)):
+                    bound.append(node.name)
+                elif isinstance(node, ast.arg):
+                    bound.append(node.arg)
+                elif isinstance(node, ast.Name) and isinstance(node.ctx, ast.Store):
+                    bound.append(node.id)
+                for each in bound:
+                    # A doctest that ran before leaves the name _ there.
+                    self.assertNotIn(each, set(dir(builtins)) - {"_"}, (name, node.lineno))
+                    self.assertNotIn(each, BARRED_NAMES, (name, node.lineno))
+                    self.assertRegex(each, r"^(__init__|[A-Za-z][A-Za-z0-9_]*|_)$")
+
+    def test_barred_words(self):
+        for name in file_names():
+            tree = ast.parse(source(name))
+            texts = {ast.get_docstring(node, clean=False) for node in ast.walk(tree) if hasattr(node, "body")
+                     and isinstance(node, (ast.Module, ast.FunctionDef, ast.ClassDef))}
+            for token in tokenize.generate_tokens(io.StringIO(source(name)).readline):
+                if token.type == tokenize.COMMENT:
+                    continue
+                if token.type == tokenize.STRING and ast.literal_eval(token.string) in texts:
+                    continue
+                self.assertLessEqual(set(re.findall(r"\w+", token.string)) & BARRED_WORDS, set(), (name, token.start))
+
+    def test_nested_comprehensions_have_names_of_their_own(self):
+        comprehensions = (ast.ListComp, ast.DictComp, ast.SetComp)
+        for name in file_names():
+            for node in ast.walk(ast.parse(source(name))):
+                if not isinstance(node, comprehensions):
+                    continue
+                outer = {part.id for each in node.generators for part in ast.walk(each.target)
+                         if isinstance(part, ast.Name)}
+                for inner in ast.walk(node):
+                    if isinstance(inner, comprehensions) and inner is not node:
+                        names = {part.id for each in inner.generators for part in ast.walk(each.target)
+                                 if isinstance(part, ast.Name)}
+                        self.assertEqual(outer & names - {"_"}, set(), (name, node.lineno))
 
     def test_calls(self):
         methods = METHODS | own_methods()

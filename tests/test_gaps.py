@@ -233,7 +233,8 @@ class PointsAndPlanes(unittest.TestCase):
         self.assertEqual(point_gap((1, HUGE, 0, 0), (1, 0, HUGE, 0)), (2 * HUGE * HUGE, 1))
 
     def test_planes(self):
-        planes = [(0, 0, 0, 1), (1, 2, 2, 1), (5, 3, 4, 0), (1, -1, 1, 0), (0, 1, 1, 1), (2, 0, 0, 3), (3, 0, -2, 0)]
+        planes = [(0, 0, 0, 1), (1, 2, 2, 1), (5, 3, 4, 0), (1, -1, 1, 0), (0, 1, 1, 1), (2, 0, 0, 3), (3, 0, -2, 0),
+                  (3, 2, 0, 0), (0, 1, 0, 0)]
         on_it = 0
         for plane in planes:
             for point in POINTS + [(1, 1, 0, 0), (1, 1, -1, 0), (3, 0, 0, -2), (2, 0, 3, 0)]:

@@ -172,6 +172,17 @@ class Count(unittest.TestCase):
                 self.assertEqual((meeters_count(order), told_meeters(order)), told)
                 self.assertEqual((meeters_count(order + order[:3]), told_meeters(order + order[:3])), told)
 
+    def test_eight_of_one_ring(self):
+        for three in (THREE, UNTOLD[:3]):
+            pairs = [(0, 1), (1, 0), (1, 1), (2, 1), (-1, 3), (5, 2), (1, -7), (3, 4)]
+            lot = tuple(ring_rod(*three, s, t) for s, t in pairs)
+            self.assertEqual((rank(lot), meeters_count(lot), told_meeters(lot)), (3, "endless", None))
+            self.assertIs(all_meet(lot, ring_rod(*three, 9, 11)), True)
+            self.assertIsNone(passing_meeter(lot, ring_rod(*three, 9, 11)))
+            passing = passing_meeter(lot, any_meeter(lot))
+            self.assertTrue(all(do_meet(passing, rod) for rod in lot))
+            self.assertIs(do_meet(passing, any_meeter(lot)), False)
+
     def test_counts_are_plain(self):
         for lot in LOTS:
             count = meeters_count(lot)
