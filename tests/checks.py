@@ -3,9 +3,10 @@
 from samples import (
     NO_FOURS, NO_FRACTIONS, NO_RODS, NO_SCREWS, NO_SURFACES, NO_TABLES, NO_WHOLES, WRONG_LOTS,
 )
+from shapes import NO_CUBICS, WRONG_FIVES, WRONG_SIXES
 from stringrods.errors import (
-    InvalidFraction, InvalidLot, InvalidNumber, InvalidPlane, InvalidPoint, InvalidRod, InvalidScrew, InvalidSurface,
-    InvalidTable, RodError,
+    InvalidCubic, InvalidFraction, InvalidLot, InvalidNumber, InvalidPlane, InvalidPoint, InvalidRod, InvalidRods,
+    InvalidScrew, InvalidSurface, InvalidTable, RodError,
 )
 
 
@@ -24,6 +25,9 @@ SURFACE = (InvalidSurface, "given", kept(NO_SURFACES))
 FRACTION = (InvalidFraction, "given", kept(NO_FRACTIONS))
 NUMBER = (InvalidNumber, "given", kept(NO_WHOLES))
 LOT = (InvalidLot, "index", WRONG_LOTS)
+CUBIC = (InvalidCubic, "given", kept(NO_CUBICS))
+FIVE = (InvalidRods, "index", WRONG_FIVES)
+SIX = (InvalidRods, "index", WRONG_SIXES)
 
 
 class ErrorChecks:

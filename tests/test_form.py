@@ -21,6 +21,9 @@ METHODS = {
     "partition", "pop", "remove", "replace", "reverse", "rfind", "rjust", "rpartition", "rsplit", "rstrip",
     "setdefault", "split", "splitlines", "startswith", "strip", "update", "upper", "values", "zfill", "bit_length",
 }
+DUNDERS = {"__init__", "__eq__", "__bool__", "__len__", "__contains__", "__enter__", "__exit__"}
+# Variables and parameters that hold a function.
+HELD_FUNCTIONS = {"action", "check", "reader"}
 BARRED = (
     ast.AsyncFor, ast.AsyncFunctionDef, ast.AsyncWith, ast.Await, ast.Global, ast.Import, ast.Div, ast.MatMult,
     ast.GeneratorExp,
@@ -176,7 +179,9 @@ class Files(unittest.TestCase):
                     # A doctest that ran before leaves the name _ there.
                     self.assertNotIn(each, set(dir(builtins)) - {"_"}, (name, node.lineno))
                     self.assertNotIn(each, BARRED_NAMES, (name, node.lineno))
-                    self.assertRegex(each, r"^(__init__|[A-Za-z][A-Za-z0-9_]*|_)$")
+                    self.assertRegex(each, r"^(__[a-z]+__|_?[A-Za-z][A-Za-z0-9_]*|_)$")
+                    if each.startswith("__"):
+                        self.assertIn(each, DUNDERS)
 
     def test_barred_words(self):
         for name in file_names():
@@ -208,12 +213,61 @@ class Files(unittest.TestCase):
         methods = METHODS | own_methods()
         for name in file_names():
             tree = ast.parse(source(name))
-            known = own_names(tree) | BUILTINS
+            known = own_names(tree) | BUILTINS | HELD_FUNCTIONS
             for node in ast.walk(tree):
                 if isinstance(node, ast.Call) and isinstance(node.func, ast.Name):
                     self.assertIn(node.func.id, known, (name, node.lineno))
                 elif isinstance(node, ast.Call):
                     self.assertIn(node.func.attr, methods, (name, node.lineno))
+
+    def test_classes(self):
+        allowed = (ast.FunctionDef, ast.Expr)
+        for name in file_names():
+            for node in ast.walk(ast.parse(source(name))):
+                if not isinstance(node, ast.ClassDef):
+                    continue
+                self.assertEqual(node.decorator_list, [])
+                for part in node.body:
+                    self.assertIsInstance(part, allowed, (name, part.lineno))
+                methods = [part for part in node.body if isinstance(part, ast.FunctionDef)]
+                self.assertEqual(len(methods), len({part.name for part in methods}))
+                for part in methods:
+                    self.assertLessEqual([mark.id for mark in part.decorator_list], ["property"])
+
+    def test_lengths_are_of_something(self):
+        for name in file_names():
+            for node in ast.walk(ast.parse(source(name))):
+                if isinstance(node, ast.FunctionDef) and node.name == "__len__":
+                    self.assertEqual(ast.unparse(node.body[-1]), "return len(self.past)")
+
+    def test_what_the_end_of_a_trial_does(self):
+        for name in file_names():
+            for node in ast.walk(ast.parse(source(name))):
+                if isinstance(node, ast.FunctionDef) and node.name == "__exit__":
+                    self.assertFalse([part for part in ast.walk(node) if isinstance(part, (ast.Call, ast.BinOp))])
+                    tests = [ast.unparse(part.test) for part in ast.walk(node) if isinstance(part, ast.If)]
+                    self.assertLessEqual(set(tests), {"kind is not None", "kind is None"})
+
+    def test_what_is_caught(self):
+        for name in file_names():
+            for node in ast.walk(ast.parse(source(name))):
+                if isinstance(node, ast.ExceptHandler):
+                    self.assertEqual(ast.unparse(node.type), "RodError")
+
+    def test_tables_at_the_top_are_written_out(self):
+        for name in file_names():
+            for node in ast.parse(source(name)).body:
+                if isinstance(node, ast.Assign):
+                    functions = {part.id for part in ast.walk(node.value) if isinstance(part, ast.Name)}
+                    self.assertLessEqual(functions, own_names(ast.parse(source(name))))
+                    self.assertFalse([part for part in ast.walk(node.value) if isinstance(part, (ast.Call, ast.BinOp))])
+
+    def test_the_only_test_of_one_object(self):
+        for name in file_names():
+            for node in ast.walk(ast.parse(source(name))):
+                if isinstance(node, ast.Compare) and isinstance(node.ops[0], (ast.Is, ast.IsNot)):
+                    plain = isinstance(node.comparators[0], ast.Constant) and node.comparators[0].value is None
+                    self.assertTrue(plain or ast.unparse(node) == "self is other", (name, node.lineno))
 
     def test_no_name_means_two_things(self):
         for name in file_names():
