@@ -230,7 +230,8 @@ def wrong_tuples(good):
     told += [(good + (None, None), many), (good + good, many), (good * 10, many)]
     for at in range(many):
         told += [(good[:at] + (value,) + good[at + 1:], at) for value in NO_RODS[at::many]]
-        told += [(good[:at] + (value,) + good[at + 1:], at) for value in (None, list(good[at]), [good[at]], (good[at],))]
+        others = (None, list(good[at]), [good[at]], (good[at],))
+        told += [(good[:at] + (value,) + good[at + 1:], at) for value in others]
         told.append((good[:at] + ((2, 0, 0, 0, 0, 0), None) + good, at))
         told.append((good[:at] + (None,), at))
     return told
@@ -246,7 +247,8 @@ def wrong_apart(good):
     told += [((None, None), None), ((good[0],) * 2, None), (good[0] + good[0], None), ((None,) * 60, None)]
     for at in range(len(good)):
         told += [(good[:at] + (value,) + good[at + 1:], at) for value in NO_RODS[at::4]]
-        told += [(good[:at] + (value,) + good[at + 1:], at) for value in (None, list(good[at]), [good[at]], (good[at],))]
+        others = (None, list(good[at]), [good[at]], (good[at],))
+        told += [(good[:at] + (value,) + good[at + 1:], at) for value in others]
         # One of those ahead once more, or a rod that meets one of them, and then what is no rod.
         told += [(good[:at] + (good[ahead],) + (None,) * (len(good) - at - 1), at) for ahead in range(at)]
         for ahead in range(at):

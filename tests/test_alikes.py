@@ -9,7 +9,8 @@ from checks import ErrorChecks
 from references import noughts, rank_by_fractions
 from samples import PLAIN, crossed_sum, determinant
 from shapes import (
-    ACROSS, AUGER, GREAT, MAPS, MIRROR, SHIFT, SMALL, all_apart, apart_lot, led_rod, picked_lots, picked_tables, pool_by,
+    ACROSS, AUGER, GREAT, MAPS, MIRROR, SHIFT, SMALL, all_apart, apart_lot, led_rod, picked_lots, picked_tables,
+    pool_by,
     table_of_rows, turned_rod, whole, wrong_apart,
 )
 from stringrods import alikes
@@ -379,7 +380,8 @@ class Errors(ErrorChecks, unittest.TestCase):
         wrong = (InvalidLot, "index", wrong_apart(FOUR))
         for other in (FOUR, FOUR[::-1], OTHER + FOUR[3:]):
             if all_apart(other):
-                self.check_ahead_of_last([(tables_between, [("lot", wrong, FOUR), ("other", wrong, other)], NotJustOne)])
+                self.check_ahead_of_last([(tables_between, [("lot", wrong, FOUR), ("other", wrong, other)],
+                                           NotJustOne)])
 
     def test_lengths(self):
         lot = picked_lots(None, 6, 8, 1, 356)[0]

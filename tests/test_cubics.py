@@ -310,7 +310,8 @@ class Planes(unittest.TestCase):
 
     def test_which_ones(self):
         threes = [three for three, _ in three_planes(*FIRST_SIX)]
-        expected = [(i, 6 + j, 12 + C_PAIRS.index((min(i, j), max(i, j)))) for i in range(6) for j in range(6) if i != j]
+        expected = [(i, 6 + j, 12 + C_PAIRS.index((min(i, j), max(i, j))))
+                    for i in range(6) for j in range(6) if i != j]
         self.assertEqual(len(expected), 30)
         for one, two, three in combinations(C_PAIRS, 3):
             if len(set(one + two + three)) == 6:
@@ -353,7 +354,8 @@ class Pairs(unittest.TestCase):
                 self.assertEqual(list(first), sorted(first))
                 self.assertEqual(min(first + second), first[0])
                 self.assertEqual(len(set(first + second)), 12)
-                self.assertIs(are_six(tuple(whole_lot[at] for at in first), tuple(whole_lot[at] for at in second)), True)
+                one, two = (tuple(whole_lot[at] for at in half) for half in (first, second))
+                self.assertIs(are_six(one, two), True)
 
     def test_by_search(self):
         for rods, others in SIXES[:2]:

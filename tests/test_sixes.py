@@ -105,7 +105,8 @@ class NoSixes(unittest.TestCase):
 
     def test_two_that_meet(self):
         # Two through one point of the first axis, two in one plane with it, one rod twice.
-        for five in (PROPS[:4] + (joined((1, 0, 0, 0), (1, 0, 1, 5)),), PROPS[:4] + (joined((1, 7, 0, 0), (1, 0, 0, 1)),),
+        for five in (PROPS[:4] + (joined((1, 0, 0, 0), (1, 0, 1, 5)),),
+                     PROPS[:4] + (joined((1, 7, 0, 0), (1, 0, 0, 1)),),
                      PROPS[:4] + (PROPS[0],)):
             self.assertFalse(any(crossed_sum(ACROSS, rod) for rod in five))
             self.assertFalse(all_apart(five))
