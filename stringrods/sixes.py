@@ -32,9 +32,11 @@ def are_apart(rods):
 
 
 def other_meeter(four, rod):
-    """Return the one meeter of the four besides the rod; raise NotSix if there is not just one."""
+    """Return the meeter, besides the rod, of four rods that do not hang together; raise NotSix if there is none."""
+    # Four rods apart from one another, of the rank 4, do not have endless meeters: they would all
+    # go through one point or lie in one plane. The rod is told, so the other one is, too.
     told = told_meeters(four)
-    if told is None or len(told) != 2:
+    if len(told) != 2:
         raise NotSix()
     return told[1] if told[0] == rod else told[0]
 

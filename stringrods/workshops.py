@@ -5,7 +5,7 @@ from stringrods.errors import (
 )
 from stringrods.rods import check_rod
 from stringrods.rows import is_whole
-from stringrods.tables import check_table, rod_by
+from stringrods.tables import rod_by
 from stringrods.wishes import holds, is_name, is_wish, names_of
 
 
@@ -110,7 +110,6 @@ class Workshop:
     def move(self, name, table):
         """Put in the place of a rod that to which the table leads it."""
         self._check_known(name)
-        check_table(table)
         self._place(name, rod_by(table, self.now[0][name]))
 
     def wish(self, wish):

@@ -211,6 +211,13 @@ class AreSix(unittest.TestCase):
         same = (ACROSS,) * 6
         self.assertIs(are_six(same, same), False)
         self.assertIs(are_six(FIRST_SIX[0][:5] + FIRST_SIX[0][:1], FIRST_SIX[1]), False)
+        # The edges of four points, and for each the one that is opposite: just these two do not meet.
+        edges = tuple(joined(one, two) for at, one in enumerate(PLAIN) for two in PLAIN[at + 1:])
+        for table in MAPS:
+            led = tuple(led_rod(table, rod) for rod in edges)
+            crossing = [[crossed_sum(rod, other) == 0 for other in led[::-1]] for rod in led]
+            self.assertEqual(crossing, [[i != j for j in range(6)] for i in range(6)])
+            self.assertIs(are_six(led, led[::-1]), False)
 
     def test_led(self):
         for rods, others in SIXES:
